@@ -1,0 +1,1 @@
+"""Quotehome: search chains under which every quote of a text is found."""

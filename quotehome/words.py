@@ -1,0 +1,41 @@
+"""Words and texts."""
+
+from quotehome.errors import InvalidText
+
+MOST_LETTERS = 10
+HOLE = "*"
+
+
+def is_letters(value, most):
+    """Whether any value is a string of 1 to most letters from a to z."""
+    if not isinstance(value, str) or not 1 <= len(value) <= most:
+        return False
+    return all(["a" <= letter <= "z" for letter in value])
+
+
+def is_word(value):
+    """Whether any value is a word."""
+    return is_letters(value, MOST_LETTERS)
+
+
+def words_of(text):
+    """The tuple of the words of a text."""
+    if not isinstance(text, str):
+        raise InvalidText(0)
+    if text == "":
+        return ()
+    parts = text.split(" ")
+    for index, part in enumerate(parts):
+        if not is_word(part):
+            raise InvalidText(index)
+    return tuple(parts)
+
+
+def text_of(words):
+    """The text of a list or tuple of words."""
+    return " ".join(words)
+
+
+def ascending(values):
+    """The tuple of the values in ascending order, each once."""
+    return tuple(sorted(set(values)))

@@ -1,0 +1,67 @@
+"""The names, files, arguments and methods that the document's interface lists, as far as they have landed."""
+
+import importlib
+import inspect
+import unittest
+
+FUNCTIONS = {
+    "words": {"is_word": "(value)", "words_of": "(text)", "text_of": "(words)"},
+}
+CLASSES = {
+    "errors": {
+        "QuoteError": None, "InvalidWord": "(value)", "InvalidText": "(index)", "InvalidStep": "(reason, index)",
+        "InvalidChain": "(reason, index)", "InvalidLine": "(line, word)", "UnknownCommand": "(line)",
+        "Missed": "(text, first, last)", "NoText": "(name)", "NoBeginning": "(begun)", "NoWord": "(index)",
+        "NoBlock": "(index)", "TooMany": "(limit)", "NothingToUndo": "(count)",
+    },
+    "steps": {
+        "Step": "()", "Stop": "(*words)", "Drop": "(*words)", "Swap": "(**pairs)", "Stem": "(*endings, keep=())",
+    },
+    "rules": {"Same": "(*rules, keep=True)"},
+}
+STEP_METHODS = {"result": "(self, value)", "__eq__": "(self, other)", "__str__": "(self)", "__repr__": "(self)"}
+METHODS = {
+    "Step": STEP_METHODS, "Stop": STEP_METHODS, "Drop": STEP_METHODS, "Stem": STEP_METHODS, "Same": STEP_METHODS,
+    "Swap": {**STEP_METHODS, "of": "(cls, pairs)"},
+}
+VALUES = {"Stop": {"MOST": 20}, "Stem": {"LEAST": 2}, "Same": {"MOST": 8}}
+
+
+def listed(table):
+    for module, names in table.items():
+        module = importlib.import_module("quotehome." + module)
+        for name, signature in names.items():
+            yield module, getattr(module, name), signature
+
+
+def told(method):
+    return str(inspect.signature(getattr(method, "__func__", method)))
+
+
+class InterfaceTest(unittest.TestCase):
+    def test_functions(self):
+        for module, function, signature in listed(FUNCTIONS):
+            self.assertTrue(inspect.isfunction(function))
+            self.assertEqual(function.__module__, module.__name__)
+            self.assertEqual(told(function), signature, function)
+
+    def test_classes(self):
+        for module, owner, signature in listed(CLASSES):
+            self.assertTrue(inspect.isclass(owner))
+            self.assertEqual(owner.__module__, module.__name__)
+            if signature is not None:
+                self.assertEqual(told(owner), signature, owner)
+
+    def test_methods_stand_in_the_class_itself(self):
+        for _, owner, _ in listed(CLASSES):
+            for name, signature in METHODS.get(owner.__name__, {}).items():
+                self.assertEqual(told(vars(owner)[name]), signature, (owner, name))
+
+    def test_class_values(self):
+        for _, owner, _ in listed(CLASSES):
+            for name, value in VALUES.get(owner.__name__, {}).items():
+                self.assertEqual(vars(owner)[name], value)
+
+
+if __name__ == "__main__":
+    unittest.main()
