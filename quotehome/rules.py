@@ -29,6 +29,11 @@ def rule_text(rule):
     return " = ".join([text_of(side) for side in rule])
 
 
+def each_once(sides):
+    """The tuple of the sides, each at the first of its places only."""
+    return tuple({side: True for side in sides})
+
+
 class Same(Step):
     """Puts the other sides of its rules beside the words of a side."""
 

@@ -39,3 +39,8 @@ def text_of(words):
 def ascending(values):
     """The tuple of the values in ascending order, each once."""
     return tuple(sorted(set(values)))
+
+
+def is_number(value, many):
+    """Whether any value is the number of one of so many words or blocks."""
+    return isinstance(value, int) and not isinstance(value, bool) and 0 <= value < many

@@ -4,6 +4,7 @@ import copy
 import unittest
 
 from quotehome import errors
+from quotehome.chains import Chain
 from quotehome.rules import Same
 from quotehome.steps import Drop, Stem, Step, Stop, Swap
 
@@ -40,16 +41,19 @@ def any_values():
         "a" * 4000, "a " * 2000,
         (), ("a",), ("a", "b"), ((),), [], ["a"], [None], {}, {"a": "b"}, {1: [2]}, {(1, "a"): None}, nested(20),
         Step(), Stop("a"), Drop("a"), Swap(a="b"), Stem("s"), Same("a = b"),
+        Chain(), Chain(Stop("a")), Chain()("a b"), Chain()("a")[0],
         errors.QuoteError(), errors.InvalidWord("a"), errors.NoBlock(0),
     ]
 
 
 def strict(value):
-    """A value with its classes, so that True is not 1 and a list is not a tuple."""
+    """A value with its classes and attributes, so that True is not 1 and a list is not a tuple."""
     if isinstance(value, (list, tuple)):
         return (type(value), [strict(part) for part in value])
     if isinstance(value, dict):
         return (dict, [(strict(key), strict(worth)) for key, worth in value.items()])
+    if hasattr(value, "__dict__"):
+        return (type(value), strict(vars(value)))
     return (type(value), value)
 
 
@@ -64,7 +68,7 @@ class Case(unittest.TestCase):
             call(*args, **more)
         self.assertIs(type(caught.exception), error)
         self.same([getattr(caught.exception, name) for name in FIELDS[error.__name__]], list(fields))
-        self.same(repr((args, more)), repr(before))
+        self.same((args, more), before)
 
     def equal_to_no_other(self, value, others):
         """The value is equal to none of these, seen from both sides."""

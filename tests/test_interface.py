@@ -6,6 +6,7 @@ import unittest
 
 FUNCTIONS = {
     "words": {"is_word": "(value)", "words_of": "(text)", "text_of": "(words)"},
+    "charts": {"chart": "(graph)"},
 }
 CLASSES = {
     "errors": {
@@ -18,13 +19,25 @@ CLASSES = {
         "Step": "()", "Stop": "(*words)", "Drop": "(*words)", "Swap": "(**pairs)", "Stem": "(*endings, keep=())",
     },
     "rules": {"Same": "(*rules, keep=True)"},
+    "chains": {"Chain": "(*steps)"},
+    "blocks": {"Block": None},
+    "graphs": {"Graph": None},
 }
 STEP_METHODS = {"result": "(self, value)", "__eq__": "(self, other)", "__str__": "(self)", "__repr__": "(self)"}
 METHODS = {
     "Step": STEP_METHODS, "Stop": STEP_METHODS, "Drop": STEP_METHODS, "Stem": STEP_METHODS, "Same": STEP_METHODS,
     "Swap": {**STEP_METHODS, "of": "(cls, pairs)"},
+    "Chain": {
+        "result": "(self, word)", "__call__": "(self, text)", "bare": "(self)", "read": "(cls, text)",
+        "with_rules": "(self, *rules, keep=True)", "__or__": "(self, other)", "__len__": "(self)",
+        "__eq__": "(self, other)", "__str__": "(self)", "__repr__": "(self)",
+    },
+    "Block": {"__eq__": "(self, other)"},
+    "Graph": {
+        "__len__": "(self)", "__getitem__": None, "__contains__": None, "__eq__": "(self, other)", "ways": "(self)",
+    },
 }
-VALUES = {"Stop": {"MOST": 20}, "Stem": {"LEAST": 2}, "Same": {"MOST": 8}}
+VALUES = {"Stop": {"MOST": 20}, "Stem": {"LEAST": 2}, "Same": {"MOST": 8}, "Chain": {"MOST": 6, "HOLE": "*"}}
 
 
 def listed(table):
@@ -55,7 +68,9 @@ class InterfaceTest(unittest.TestCase):
     def test_methods_stand_in_the_class_itself(self):
         for _, owner, _ in listed(CLASSES):
             for name, signature in METHODS.get(owner.__name__, {}).items():
-                self.assertEqual(told(vars(owner)[name]), signature, (owner, name))
+                self.assertIn(name, vars(owner))
+                if signature is not None:
+                    self.assertEqual(told(vars(owner)[name]), signature, (owner, name))
 
     def test_class_values(self):
         for _, owner, _ in listed(CLASSES):

@@ -15,6 +15,11 @@ def other_steps():
     ]
 
 
+def foreign_step():
+    """An object of another class that is called Step, too."""
+    return type("Step", (), {})()
+
+
 class StepTest(Case):
     def test_results(self):
         for value in ["a", "cats", "*", None]:
@@ -25,7 +30,9 @@ class StepTest(Case):
         self.equal_both_ways(Step(), Step())
         self.equal_to_no_other(Step(), [value for value in any_values() if type(value) is not Step])
         self.equal_to_no_other(Step(), other_steps()[1:])
+        self.equal_to_no_other(Step(), [foreign_step()])
         self.assertIs(Step().__eq__(Stop("a")), False)
+        self.same(repr(Step()), "Step()")
 
     def test_methods_stand_in_each_class(self):
         for step in [Step, Stop, Drop, Swap, Stem]:
