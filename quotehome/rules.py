@@ -29,6 +29,11 @@ def rule_text(rule):
     return " = ".join([text_of(side) for side in rule])
 
 
+def rule_line(rule, keep):
+    """The line of a rule in the text of a chain."""
+    return f"same {rule_text(rule)}" if keep else f"first {rule_text(rule)}"
+
+
 def each_once(sides):
     """The tuple of the sides, each at the first of its places only."""
     return tuple({side: True for side in sides})
@@ -57,8 +62,7 @@ class Same(Step):
         return isinstance(other, Same) and self.rules == other.rules and self.keep == other.keep
 
     def __str__(self):
-        kind = "same" if self.keep else "first"
-        return "\n".join([f"{kind} {rule_text(rule)}" for rule in self.rules])
+        return "\n".join([rule_line(rule, self.keep) for rule in self.rules])
 
     def __repr__(self):
         return f"Same({quoted([rule_text(rule) for rule in self.rules])})"

@@ -17,6 +17,16 @@ def quoted(values):
     return ", ".join([repr(value) for value in values])
 
 
+def quoted_pairs(pairs):
+    """The pairs as they stand between the parentheses of a call."""
+    return ", ".join([f"{first}={second!r}" for first, second in pairs])
+
+
+def kept_text(keep):
+    """The kept words as they stand behind the endings of a line."""
+    return f" - {text_of(keep)}" if len(keep) > 0 else ""
+
+
 def is_keep(keep):
     """Whether any value is a list or tuple of kept words, not too many."""
     if not isinstance(keep, (list, tuple)) or len(keep) > MOST_KEPT:
@@ -127,8 +137,7 @@ class Swap(Step):
         return f"swap {text_of([text_of(pair) for pair in self.pairs])}"
 
     def __repr__(self):
-        told = ", ".join([f"{first}={second!r}" for first, second in self.pairs])
-        return f"Swap({told})"
+        return f"Swap({quoted_pairs(self.pairs)})"
 
 
 class Stem(Step):
@@ -159,8 +168,7 @@ class Stem(Step):
         return isinstance(other, Stem) and self.endings == other.endings and self.keep == other.keep
 
     def __str__(self):
-        kept = ["-", *self.keep] if len(self.keep) > 0 else []
-        return " ".join(["stem", *self.endings, *kept])
+        return f"stem {text_of(self.endings)}{kept_text(self.keep)}"
 
     def __repr__(self):
         return f"Stem({quoted(self.endings)})"
