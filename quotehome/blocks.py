@@ -1,6 +1,6 @@
 """Blocks: the parts into which a chain parts a row of words."""
 
-from quotehome.rules import each_once
+from quotehome.rules import MOST_SIDE_WORDS, each_once
 from quotehome.words import HOLE
 
 
@@ -53,12 +53,12 @@ def next_block(results, first, place, rules, keep):
     return Block(first, first + len(met) - 1, place, sides, sides[0] == met)
 
 
-def blocks_of(results, rules, keep):
-    """The tuple of the blocks of a row of words with these results."""
+def blocks_of(results, rules, keep, waiting=()):
+    """The tuple of the blocks of a row of words with these results; those of last ones that are waiting make none."""
     blocks = []
     first = 0
     place = 0
-    while first < len(results):
+    while first < len(results) and results[first:first + MOST_SIDE_WORDS] not in waiting:
         block = next_block(results, first, place, rules, keep)
         blocks.append(block)
         first = block.last + 1
@@ -66,14 +66,23 @@ def blocks_of(results, rules, keep):
     return tuple(blocks)
 
 
+def many_words(blocks):
+    """How many words the first blocks of a text have."""
+    return blocks[-1].last + 1 if len(blocks) > 0 else 0
+
+
+def origin(block, number, index):
+    """The numbers of the first and the last word that an entry of a side comes from, told by both their numbers."""
+    if block.is_own and number == 0:
+        return (block.first + index, block.first + index)
+    return (block.first, block.last)
+
+
 def tokens_of(block):
     """The list of the tokens of a block, perhaps some of them twice."""
     tokens = []
     for number, side in enumerate(block.sides):
         for index, entry in enumerate(side):
-            first, last = block.first, block.last
-            if block.is_own and number == 0:
-                first = last = block.first + index
             if entry != HOLE:
-                tokens.append((block.place + index, entry, first, last))
+                tokens.append((block.place + index, entry) + origin(block, number, index))
     return tokens

@@ -1,9 +1,11 @@
 """What the tests share: values of any kind, and errors with their fields."""
 
 import copy
+import inspect
 import unittest
 
 from quotehome import errors
+from quotehome.books import Book
 from quotehome.chains import Chain
 from quotehome.rules import Same
 from quotehome.steps import Drop, Stem, Step, Stop, Swap
@@ -41,7 +43,7 @@ def any_values():
         "a" * 4000, "a " * 2000,
         (), ("a",), ("a", "b"), ((),), [], ["a"], [None], {}, {"a": "b"}, {1: [2]}, {(1, "a"): None}, nested(20),
         Step(), Stop("a"), Drop("a"), Swap(a="b"), Stem("s"), Same("a = b"),
-        Chain(), Chain(Stop("a")), Chain()("a b"), Chain()("a")[0],
+        Chain(), Chain(Stop("a")), Chain()("a b"), Chain()("a")[0], Book(Chain()),
         errors.QuoteError(), errors.InvalidWord("a"), errors.NoBlock(0),
     ]
 
@@ -69,6 +71,24 @@ class Case(unittest.TestCase):
         self.assertIs(type(caught.exception), error)
         self.same([getattr(caught.exception, name) for name in FIELDS[error.__name__]], list(fields))
         self.same((args, more), before)
+
+    def gives(self, value, call, **named):
+        """The call returns or yields just this, by position and by name, each time, and its arguments stay."""
+        before = copy.deepcopy(named)
+        for _ in range(2):
+            for answer in [call(*named.values()), call(**named)]:
+                self.same(list(answer) if inspect.isgenerator(answer) else answer, value)
+        self.same(named, before)
+
+    def fails_in_all_ways(self, error, fields, call, **named):
+        """The call, or the first item of its generator, raises just this error, by position and by name."""
+        def called(*args, **more):
+            answer = call(*args, **more)
+            if inspect.isgenerator(answer):
+                next(answer)
+
+        self.fails(error, fields, called, *named.values())
+        self.fails(error, fields, called, **named)
 
     def equal_to_no_other(self, value, others):
         """The value is equal to none of these, seen from both sides."""

@@ -7,6 +7,12 @@ import unittest
 FUNCTIONS = {
     "words": {"is_word": "(value)", "words_of": "(text)", "text_of": "(words)"},
     "charts": {"chart": "(graph)"},
+    "phrases": {"hit_places": "(asked, written)"},
+    "rewordings": {"rewordings": "(chain, quote)"},
+    "home": {
+        "asks": "(asker, text, first, last)", "found": "(writer, asker, text, first, last)",
+        "home_places": "(writer, asker, text, first, last)", "missed": "(writer, asker, text)",
+    },
 }
 CLASSES = {
     "errors": {
@@ -22,6 +28,7 @@ CLASSES = {
     "chains": {"Chain": "(*steps)"},
     "blocks": {"Block": None},
     "graphs": {"Graph": None},
+    "books": {"Book": "(chain)"},
 }
 STEP_METHODS = {"result": "(self, value)", "__eq__": "(self, other)", "__str__": "(self)", "__repr__": "(self)"}
 METHODS = {
@@ -36,8 +43,16 @@ METHODS = {
     "Graph": {
         "__len__": "(self)", "__getitem__": None, "__contains__": None, "__eq__": "(self, other)", "ways": "(self)",
     },
+    "Book": {
+        "add": "(self, name, text)", "remove": "(self, name)", "__getitem__": "(self, name)", "places": "(self, word)",
+        "hits": "(self, graph)", "marks": "(self, name, graph, place)", "__len__": "(self)", "__contains__": None,
+        "__eq__": "(self, other)",
+    },
 }
-VALUES = {"Stop": {"MOST": 20}, "Stem": {"LEAST": 2}, "Same": {"MOST": 8}, "Chain": {"MOST": 6, "HOLE": "*"}}
+VALUES = {
+    "Stop": {"MOST": 20}, "Stem": {"LEAST": 2}, "Same": {"MOST": 8}, "Chain": {"MOST": 6, "HOLE": "*"},
+    "Book": {"MOST": 40},
+}
 
 
 def listed(table):

@@ -148,6 +148,10 @@ class LanguageTest(unittest.TestCase):
 
     def test_methods_that_are_called(self):
         own = {function.name for tree in trees().values() for function in functions(tree)}
+        # An attribute can be an object that is called.
+        own |= {
+            node.attr for tree in trees().values() for node in ast.walk(tree)
+            if isinstance(node, ast.Attribute) and isinstance(node.ctx, ast.Store)}
         for path, tree in trees().items():
             for node in ast.walk(tree):
                 if isinstance(node, ast.Call) and isinstance(node.func, ast.Attribute):
@@ -170,6 +174,15 @@ class LanguageTest(unittest.TestCase):
         for function in everything:
             if any(isinstance(node, (ast.Yield, ast.YieldFrom)) for node in ast.walk(function)):
                 self.assertEqual(names.count(function.name), 1, function.name)
+
+    def test_no_name_is_a_method_and_an_attribute(self):
+        methods = {
+            function.name for tree in trees().values() for node in tree.body if isinstance(node, ast.ClassDef)
+            for function in functions(node)}
+        for path, tree in trees().items():
+            for node in ast.walk(tree):
+                if isinstance(node, ast.Attribute) and isinstance(node.ctx, ast.Store):
+                    self.assertNotIn(node.attr, methods, (path, node.lineno))
 
     def test_barred_words_in_strings(self):
         for path, tree in trees().items():
