@@ -57,10 +57,8 @@ def sides_on_ways(sides, footings, live, behind):
 def marked(asked, written, place):
     """The dict of the pairs (place, word) of the words of all ways with a hit place."""
     rows = phrase_rows(asked, written)
-    marks = {}
-    if place not in start_places(rows):
-        return marks
     lives = live_rows(rows, place)
+    marks = {}
     behind = None
     for number in reversed(range(len(rows))):
         if is_worded(rows[number]):

@@ -115,6 +115,25 @@ class MissedTest(HomeCase):
         self.missed([(0, 0), (0, 1), (0, 2), (1, 1), (1, 2), (2, 2)], PLAIN, swap, "a b a")
         self.missed([], swap, swap, "a b a")
 
+    def test_one_of_the_words_of_a_token_is_enough(self):
+        writer = Chain(Same("x = a b c d", keep=False))
+        for number, word in enumerate("abcd"):
+            asker = Chain(Stop(*[other for other in "abcd" if other != word]), Same("x = " + word, keep=False))
+            self.home([0], writer, asker, "a b c d", 0, 3)
+            self.home([4], writer, asker, "e f g h a b c d", 4, 7)
+            asking = [(first, last) for first, last in all_quotes("a b c d") if first <= number <= last]
+            self.missed([quote for quote in asking if quote != (0, 3)], writer, asker, "a b c d")
+
+    def test_a_token_that_reaches_far_behind_the_asked_block(self):
+        writer = Chain(Same("y = a b c d", keep=False))
+        asker = Chain(Stop("b", "c", "d"), Same("y = m n o a", keep=False))
+        self.missed(
+            [(0, 3), (0, 4), (0, 5)] + [(first, last) for first in [1, 2, 3] for last in range(3, 7)],
+            writer, asker, "m n o a b c d")
+        self.home([3], writer, asker, "m n o a b c d", 0, 6)
+        text = "m n o a b c d m n"
+        self.same(models.missed(writer, asker, text), list(missed(writer, asker, text)))
+
     def test_the_places_of_words_that_stand_twice(self):
         writer = Chain(Same("a = b c d"))
         self.missed([(0, 1), (0, 2), (1, 2)], writer, PLAIN, "a a a")

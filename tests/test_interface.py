@@ -13,6 +13,14 @@ FUNCTIONS = {
         "asks": "(asker, text, first, last)", "found": "(writer, asker, text, first, last)",
         "home_places": "(writer, asker, text, first, last)", "missed": "(writer, asker, text)",
     },
+    "exact": {"lies": "(asked, written)", "found_exactly": "(writer, asker, text, first, last)"},
+    "kinds": {"kinds": "(writer, asker)", "like": "(writer, asker, one, other)"},
+    "begun": {"beginnings": "(chain)", "begun": "(chain, text, first)"},
+    "rows": {
+        "first_row": "(writer, asker, begun)", "read_row": "(writer, asker, row, word)",
+        "end_row": "(writer, asker, row)", "last_row": "(writer, asker, row)",
+        "row_of": "(writer, asker, text, first, last=None)",
+    },
 }
 CLASSES = {
     "errors": {

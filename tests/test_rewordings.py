@@ -108,6 +108,12 @@ class RewordingsTest(Case):
         self.reworded(["a a a a"], chain, "a a a")
         self.reworded(["a a a"], chain, "a a a a")
 
+    def test_the_same_sets_and_more_or_fewer_blocks(self):
+        # "u b a" is parted into "u b" and "a", and "u b a a" into one block more.
+        self.reworded(["u b c", "u b a", "u a"], Chain(Same("u = u b", "c = b a = a")), "u c")
+        self.reworded(["u b c", "u a"], Chain(Same("u = u b", "c = b a a = a")), "u c")
+        self.reworded(["a a a a x"], Chain(Same("a = a a")), "a a a x")
+
     def test_texts_that_come_twice(self):
         self.reworded(["b"], Chain(Same("a = b", "b = a")), "a")
         chain = Chain(Same("a = b", "a = b", "b = a"))
