@@ -79,11 +79,9 @@ def fresh_words(words, ones, others):
 
 
 def telling_words(writer, asker, sided):
-    """An ascending tuple of words, at least one of each kind.
-
-    Of a word that stands in no word step and in no fresh word either, some chain leaves a word that is compared
-    later on, or one that is an entry: it is this one and perhaps an ending.
-    """
+    """An ascending tuple of words, at least one of each kind."""
+    # If a word stands in no step and is of another kind than the fresh ones, a stem leaves of it a word that a later
+    # step compares or that is an entry, or the word is such an entry itself.
     chains = [writer, asker]
     words = list(sided) + [word for chain in chains for step in chain.steps for word in step_words(step)]
     ended = [word + ending for chain in chains for ending in endings_of(chain) for word in words]

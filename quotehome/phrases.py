@@ -55,14 +55,15 @@ def sides_on_ways(sides, footings, live, behind):
 
 
 def marked(asked, written, place):
-    """The dict of the pairs (place, word) of the words of all ways with a hit place."""
+    """The dict of the pairs (place, entry) of all ways with a hit place."""
     rows = phrase_rows(asked, written)
     lives = live_rows(rows, place)
     marks = {}
     behind = None
     for number in reversed(range(len(rows))):
         if is_worded(rows[number]):
-            for start, side in sides_on_ways(asked[number].sides, rows[number], lives[number], behind):
-                marks.update({(start + index, entry): True for index, entry in enumerate(side) if entry != HOLE})
+            sides = sides_on_ways(asked[number].sides, rows[number], lives[number], behind)
+            for spot in [(start + index, entry) for start, side in sides for index, entry in enumerate(side)]:
+                marks[spot] = True
         behind = backward(behind, rows[number])
     return marks
