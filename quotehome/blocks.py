@@ -1,17 +1,17 @@
-"""Blocks: the parts into which a chain parts a row of words."""
+"""Blocks: the parts of a text with their places."""
 
-from quotehome.rules import MOST_SIDE_WORDS, each_once
+from quotehome.parts import part_at
 from quotehome.words import HOLE
 
 
 class Block:
     """Some words of a text with their sides, from a place on. It never changes."""
 
-    def __init__(self, first, last, place, sides, is_own):
+    def __init__(self, first, last, place, width, sides, is_own):
         self.first = first
         self.last = last
         self.place = place
-        self.width = max([len(side) for side in sides], default=0)
+        self.width = width
         self.sides = sides
         self.is_own = is_own
 
@@ -24,65 +24,30 @@ def block_row(block):
     return (block.first, block.last, block.place, block.sides, block.is_own)
 
 
-def met_side(results, first, rules):
-    """The longest side that is met at a word; None if there is none."""
-    met = None
-    for rule in rules:
-        for side in rule:
-            longer = met is None or len(side) > len(met)
-            if longer and results[first:first + len(side)] == side:
-                met = side
-    return met
-
-
-def sides_beside(met, rules, keep):
-    """The sides of a block that meets a side; that side stands first, if it is among them."""
-    having = [rule for rule in rules if met in rule]
-    sides = [side for rule in having for side in rule] if keep else [rule[0] for rule in having]
-    return each_once([met] + sides) if met in sides else each_once(sides)
-
-
-def next_block(results, first, place, rules, keep):
-    """The block that begins at a word, whose place is known."""
-    if results[first] is None:
-        return Block(first, first, place, (), False)
-    met = met_side(results, first, rules)
-    if met is None:
-        return Block(first, first, place, ((results[first],),), True)
-    sides = sides_beside(met, rules, keep)
-    return Block(first, first + len(met) - 1, place, sides, sides[0] == met)
-
-
-def blocks_of(results, rules, keep, waiting=()):
-    """The tuple of the blocks of a row of words with these results; those of last ones that are waiting make none."""
+def blocks_of(results, meetings):
+    """The tuple of the blocks of a row of words with these results."""
     blocks = []
     first = 0
     place = 0
-    while first < len(results) and results[first:first + MOST_SIDE_WORDS] not in waiting:
-        block = next_block(results, first, place, rules, keep)
-        blocks.append(block)
-        first = block.last + 1
-        place = place + block.width
+    stop = len(results)
+    while first < stop:
+        many, width, sides, is_own, _ = part_at(meetings, results, first, stop)
+        blocks.append(Block(first, first + many - 1, place, width, sides, is_own))
+        first = first + many
+        place = place + width
     return tuple(blocks)
 
 
-def many_words(blocks):
-    """How many words the first blocks of a text have."""
-    return blocks[-1].last + 1 if len(blocks) > 0 else 0
-
-
-def origin(block, number, index):
-    """The numbers of the first and the last word that an entry of a side comes from, told by both their numbers."""
-    if block.is_own and number == 0:
-        return (block.first + index, block.first + index)
-    return (block.first, block.last)
-
-
 def tokens_of(block):
-    """The list of the tokens of a block, perhaps some of them twice."""
-    tokens = []
-    for number, side in enumerate(block.sides):
-        for index, entry in enumerate(side):
-            if entry != HOLE:
-                tokens.append((block.place + index, entry) + origin(block, number, index))
-    return tokens
+    """The ascending list of the tokens of a block."""
+    own = block.sides[0] if block.is_own else ()
+    tokens = [
+        (block.place + index, entry, block.first + index, block.first + index)
+        for index, entry in enumerate(own) if entry != HOLE]
+    if len(block.sides) == 1 and block.is_own:
+        return tokens
+    others = block.sides[1:] if block.is_own else block.sides
+    more = [
+        (block.place + index, entry, block.first, block.last)
+        for side in others for index, entry in enumerate(side) if entry != HOLE]
+    return sorted(set(tokens + more))

@@ -57,7 +57,7 @@ class Book:
         for name in self.names:
             graph = self.graphs[name]
             if word in graph:
-                found[name] = list(ascending([token[0] for token in graph.tokens if token[1] == word]))
+                found[name] = sorted(graph.spots[word])
         return found
 
     def hits(self, graph):

@@ -4,6 +4,8 @@ from quotehome.blocks import blocks_of
 from quotehome.errors import InvalidChain, InvalidWord
 from quotehome.graphs import Graph
 from quotehome.lines import steps_of
+from quotehome.parts import begins_of, meetings_of
+from quotehome.results import Turning
 from quotehome.rules import Same, each_once
 from quotehome.steps import Drop, Stem, Stop, Swap
 from quotehome.words import is_word, words_of
@@ -50,6 +52,7 @@ class Chain:
     def __init__(self, *steps):
         check_steps(steps)
         self.steps = steps
+        self.turning = Turning([step for step in steps if not isinstance(step, Same)])
         self.keep = True
         written = ()
         if len(steps) > 0 and isinstance(steps[-1], Same):
@@ -59,24 +62,24 @@ class Chain:
         rules = [[self.entries(side) for side in rule] for rule in written]
         check_sides(rules)
         self.rules = tuple([each_once(rule) for rule in rules])
+        self.meetings = meetings_of(self.rules, self.keep)
+        self.begins = begins_of(self.rules)
+        self.sided = {entry: True for rule in self.rules for side in rule for entry in side if entry != Chain.HOLE}
 
-    def entries(self, side):
-        """The results of the words of a side."""
-        return tuple([self.result(word) for word in side])
+    def entries(self, words):
+        """The tuple of the results of words, as of those of a side."""
+        return self.turning.turned(words)
 
     def result(self, word):
         """The result of a word: a word, a hole, or None for nothing."""
         if not is_word(word):
             raise InvalidWord(word)
-        value = word
-        for step in self.steps:
-            value = step.result(value)
-        return value
+        return self.turning.result(word)
 
     def __call__(self, text):
         """The graph of a text."""
         words = words_of(text)
-        return Graph(words, blocks_of(self.entries(words), self.rules, self.keep))
+        return Graph(words, blocks_of(self.entries(words), self.meetings))
 
     def bare(self):
         """The chain of the word steps alone."""

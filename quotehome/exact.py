@@ -1,50 +1,78 @@
 """Exact quotes: ways that lie in a graph whose sides keep their lengths."""
 
-from quotehome.blocks import origin
-from quotehome.home import asks, check_quote
-from quotehome.phrases import word_homes, word_places
-from quotehome.quotes import side_homes
-from quotehome.walks import tokens_over
-from quotehome.words import text_of
+from quotehome.blocks import blocks_of
+from quotehome.home import check_quote
+from quotehome.homes import homes_at
+from quotehome.parts import part_at
+from quotehome.phrases import word_homes
+from quotehome.words import HOLE
+
+# A spot is the number of an entry, if the entries of all sides of all blocks of a graph are counted in their order.
 
 
-class Lattice:
-    """The entries of all sides of a graph, by numbers, and those that stand directly behind each on its ways."""
+def spots_behind(blocks):
+    """For each spot the list of those that stand directly behind it on the ways of a graph with these blocks."""
+    behind = []
+    ends = []
+    for block in blocks:
+        starts = []
+        last_ends = ends
+        if len(block.sides) > 0:
+            ends = []
+        for side in block.sides:
+            starts.append(len(behind))
+            for _ in side:
+                behind.append([len(behind) + 1])
+            ends.append(len(behind) - 1)
+        if len(starts) > 0:
+            for end in last_ends:
+                behind[end] = starts
+    for end in ends:
+        behind[end] = []
+    return behind
 
-    def __init__(self, graph):
-        # Each spot is like a token, but has the number of the entry for its place.
-        self.spots = []
-        self.behind = []
-        ends = []
-        for block in graph:
-            if len(block.sides) > 0:
-                sides = [self.numbers(block, number) for number in range(len(block.sides))]
-                for end in ends:
-                    self.behind[end] = [side[0] for side in sides]
-                ends = [side[-1] for side in sides]
 
-    def numbers(self, block, number):
-        """Takes the entries of a side of a block; returns the list of their numbers."""
-        start = len(self.spots)
-        side = block.sides[number]
-        for index, entry in enumerate(side):
-            self.spots.append((start + index, entry) + origin(block, number, index))
-            self.behind.append([start + index + 1] if index + 1 < len(side) else [])
-        return list(range(start, start + len(side)))
+def word_spots(blocks):
+    """The dict from each entry of blocks to the dict of its spots."""
+    spots = {}
+    spot = 0
+    for block in blocks:
+        for side in block.sides:
+            for entry in side:
+                if entry not in spots:
+                    spots[entry] = {}
+                spots[entry][spot] = True
+                spot += 1
+    return spots
+
+
+def spot_spans(blocks):
+    """For each word of blocks a span, in which spots are in the place of places."""
+    spans = []
+    spot = 0
+    for block in blocks:
+        own = block.sides[0] if block.is_own else ()
+        entries = [entry for side in block.sides for entry in side]
+        others = {}
+        for index in range(len(own), len(entries)):
+            others.setdefault(entries[index], []).append(index)
+        spans.extend([(block.first, block.last, spot, own, others)] * (block.last - block.first + 1))
+        spot = spot + len(entries)
+    return spans
 
 
 def walked(live, homes, behind):
-    """The dict of the entries to which a side leads from live entries, from any place if live is None."""
+    """The dict of the spots to which a side leads from live ones, from any spot if live is None."""
     for home in homes:
         if live is None:
             live = home
         else:
-            live = {entry: True for last in live for entry in behind[last] if home is None or entry in home}
+            live = {spot: True for last in live for spot in behind[last] if home is None or spot in home}
     return live
 
 
 def is_somewhere(rows, behind):
-    """Whether some way lies among entries; each row has the sides of an asked block with the homes of their entries."""
+    """Whether some way lies among spots; each row has the sides of an asked block with the homes of their entries."""
     worded = [number for number, sides in enumerate(rows) if len(sides) > 0 and sides[0][0] is not None]
     if len(worded) == 0:
         return False
@@ -52,23 +80,31 @@ def is_somewhere(rows, behind):
     # Holes ahead of the first word and behind the last one may lie outside of the other graph.
     for sides in rows[worded[0]:worded[-1] + 1]:
         if len(sides) > 0:
-            live = {entry: True for homes in sides for entry in walked(live, homes, behind)}
-    return len(live) > 0
+            live = {spot: True for homes in sides for spot in walked(live, homes, behind)}
+        if live is not None and len(live) == 0:
+            return False
+    return True
 
 
 def lies(asked, written):
     """Whether some way of a graph lies in another one."""
-    lattice = Lattice(written)
-    numbers = word_places(lattice.spots)
-    return is_somewhere([[word_homes(side, numbers) for side in block.sides] for block in asked], lattice.behind)
+    spots = word_spots(written.blocks)
+    rows = [[word_homes(side, spots) for side in block.sides] for block in asked.blocks]
+    return is_somewhere(rows, spots_behind(written.blocks))
 
 
 def found_exactly(writer, asker, text, first, last):
     """Whether a quote is found exactly."""
     words = check_quote(text, first, last)
-    if not asks(asker, text, first, last):
+    results = asker.entries(words)
+    if not any([result is not None and result != HOLE for result in results[first:last + 1]]):
         return True
-    lattice = Lattice(writer(text))
-    over = tokens_over(lattice.spots, len(words))
-    asked = asker(text_of(words[first:last + 1]))
-    return is_somewhere([side_homes(block, first, over, (first, last)) for block in asked], lattice.behind)
+    blocks = blocks_of(writer.entries(words), writer.meetings)
+    spans = spot_spans(blocks)
+    rows = []
+    at = first
+    while at <= last:
+        part = part_at(asker.meetings, results, at, last + 1)
+        rows.append(homes_at(part, at, spans, (first, last)))
+        at = at + part[0]
+    return is_somewhere(rows, spots_behind(blocks))

@@ -2,7 +2,7 @@
 
 from quotehome.blocks import tokens_of
 from quotehome.errors import NoBlock
-from quotehome.words import ascending, is_number, is_word
+from quotehome.words import is_number, is_word
 
 
 def next_picks(picks, choices):
@@ -15,6 +15,17 @@ def next_picks(picks, choices):
     return picks[:turned] + [picks[turned] + 1] + [0] * (len(picks) - turned - 1)
 
 
+def word_places(tokens):
+    """The dict from each word of tokens to the dict of its places."""
+    places = {}
+    for place, word, _, _ in tokens:
+        if word in places:
+            places[word][place] = True
+        else:
+            places[word] = {place: True}
+    return places
+
+
 class Graph:
     """The row of the blocks of a text by a chain. It never changes."""
 
@@ -22,8 +33,9 @@ class Graph:
         self.words = words
         self.blocks = blocks
         self.width = sum([block.width for block in blocks])
-        self.tokens = ascending([token for block in blocks for token in tokens_of(block)])
-        self.spoken = {token[1]: True for token in self.tokens}
+        # The blocks stand behind one another, and so do their places.
+        self.tokens = tuple([token for block in blocks for token in tokens_of(block)])
+        self.spots = word_places(self.tokens)
 
     def __len__(self):
         return len(self.blocks)
@@ -37,7 +49,7 @@ class Graph:
         return iter(self.blocks)
 
     def __contains__(self, word):
-        return is_word(word) and word in self.spoken
+        return is_word(word) and word in self.spots
 
     def __eq__(self, other):
         return isinstance(other, Graph) and self.words == other.words and self.blocks == other.blocks

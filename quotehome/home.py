@@ -26,7 +26,7 @@ def asks(asker, text, first, last):
 def found(writer, asker, text, first, last):
     """Whether a quote is found."""
     check_quote(text, first, last)
-    return Quotes(writer, asker, text).is_found(first, None, (first, last))
+    return Quotes(writer, asker, text).is_found((first, last))
 
 
 def home_places(writer, asker, text, first, last):
@@ -38,6 +38,6 @@ def home_places(writer, asker, text, first, last):
 def missed(writer, asker, text):
     """Yields the pairs (first, last) of the missed quotes of a text, ascending."""
     quotes = Quotes(writer, asker, text)
-    for first in range(len(quotes.results)):
+    for first in range(quotes.many):
         for last in quotes.missed_ends(first):
             yield first, last

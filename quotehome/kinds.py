@@ -10,8 +10,7 @@ OTHER = ""
 
 def side_words(writer, asker):
     """The dict with the words that are entries of sides in two chains."""
-    rules = writer.rules + asker.rules
-    return {entry: True for rule in rules for side in rule for entry in side if entry != HOLE}
+    return {**writer.sided, **asker.sided}
 
 
 def sort_of(result, sided):
@@ -21,13 +20,16 @@ def sort_of(result, sided):
 
 def kind_of(writer, asker, sided, word):
     """What two words have in common exactly if they are of one kind."""
-    written = writer.result(word)
-    asked = asker.result(word)
+    written = writer.turning.result(word)
+    asked = asker.turning.result(word)
     return (sort_of(written, sided), sort_of(asked, sided), written == asked)
 
 
 def like(writer, asker, one, other):
     """Whether two words are of one kind."""
+    # These raise the errors of wrong values.
+    writer.result(one)
+    writer.result(other)
     sided = side_words(writer, asker)
     return kind_of(writer, asker, sided, one) == kind_of(writer, asker, sided, other)
 
@@ -42,8 +44,14 @@ def step_words(step):
 
 
 def endings_of(chain):
-    """The list of the endings that a chain takes off."""
-    return [ending for step in chain.steps if isinstance(step, Stem) for ending in step.endings]
+    """The endings that a chain takes off."""
+    return () if chain.turning.stem is None else chain.turning.stem.endings
+
+
+def ended_words(chain, sided):
+    """The list of the words of which the stem of a chain may leave one that a later step changes or a side has."""
+    left = list({**sided, **chain.turning.behind})
+    return [word + ending for ending in endings_of(chain) for word in left]
 
 
 def rarest_letter(words, start):
@@ -82,17 +90,21 @@ def telling_words(writer, asker, sided):
     """An ascending tuple of words, at least one of each kind."""
     # If a word stands in no step and is of another kind than the fresh ones, a stem leaves of it a word that a later
     # step compares or that is an entry, or the word is such an entry itself.
-    chains = [writer, asker]
-    words = list(sided) + [word for chain in chains for step in chain.steps for word in step_words(step)]
-    ended = [word + ending for chain in chains for ending in endings_of(chain) for word in words]
+    words = list(sided) + [word for chain in [writer, asker] for step in chain.steps for word in step_words(step)]
+    ended = ended_words(writer, sided) + ended_words(asker, sided)
     fresh = fresh_words(words, endings_of(writer), endings_of(asker))
-    return ascending([word for word in words + ended + fresh if is_word(word)])
+    return ascending(words + [word for word in ended + fresh if is_word(word)])
 
 
-def kinds(writer, asker):
-    """An ascending tuple with one word of each kind."""
+def first_of_kinds(writer, asker):
+    """The dict from what the words of each kind have in common to the one that stands for them."""
     sided = side_words(writer, asker)
     first = {}
     for word in telling_words(writer, asker, sided):
         first.setdefault(kind_of(writer, asker, sided, word), word)
-    return ascending(list(first.values()))
+    return first
+
+
+def kinds(writer, asker):
+    """An ascending tuple with one word of each kind."""
+    return ascending(list(first_of_kinds(writer, asker).values()))

@@ -4,16 +4,6 @@ from quotehome.walks import backward, footing, is_worded, onward, start_places
 from quotehome.words import HOLE
 
 
-def word_places(tokens):
-    """The dict from each word of tokens to the dict of its places."""
-    places = {}
-    for token in tokens:
-        if token[1] not in places:
-            places[token[1]] = {}
-        places[token[1]][token[0]] = True
-    return places
-
-
 def word_homes(side, places):
     """The list of the homes of the entries of a side: all places of the word, None for a hole."""
     return [None if entry == HOLE else places.get(entry, {}) for entry in side]
@@ -21,7 +11,7 @@ def word_homes(side, places):
 
 def phrase_rows(asked, written):
     """For each block of a graph the footings of its sides in another one."""
-    places = word_places(written.tokens)
+    places = written.spots
     known = {}
     for block in asked:
         for side in block.sides:

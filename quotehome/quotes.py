@@ -1,60 +1,43 @@
-"""The quotes of a text: where the sides of an asker's blocks are at home in a writer's graph."""
+"""The quotes of a text: which of them are missed, and where they are at home."""
 
-from quotehome.blocks import next_block, origin
-from quotehome.walks import footing, onward, tokens_over
-from quotehome.words import HOLE
+from quotehome.homes import footings_at, spans_of
+from quotehome.parts import part_at
+from quotehome.walks import onward
+from quotehome.words import words_of
 
 # A side has at most so many words behind its first one.
 REACH = 3
-
-
-def home_of(entry, near, over, quote):
-    """The dict of the places at which an entry is at home in a quote; None for a hole.
-
-    The entry comes from the words of near; near and quote are pairs of numbers, a first and a last one.
-    """
-    if entry == HOLE:
-        return None
-    tokens = [token for number in range(near[0], near[1] + 1) for token in over[number].get(entry, ())]
-    return {token[0]: True for token in tokens if quote[0] <= token[2] and token[3] <= quote[1]}
-
-
-def side_homes(block, ahead, over, quote):
-    """For each side of an asker's block the list of the homes of its entries; so many words stand ahead of it."""
-    sides = []
-    for number, side in enumerate(block.sides):
-        homes = []
-        for index, entry in enumerate(side):
-            first, last = origin(block, number, index)
-            homes.append(home_of(entry, (ahead + first, ahead + last), over, quote))
-        sides.append(homes)
-    return sides
-
-
-def home_footings(block, ahead, over, quote):
-    """The footings of an asker's block in a writer's tokens."""
-    return [footing(homes) for homes in side_homes(block, ahead, over, quote)]
+# So many words behind the first one of a block decide it, and the tokens that reach into its words.
+SIGHT = 2 * REACH
 
 
 class Quotes:
-    """All quotes of one text, for a writer and an asker."""
+    """All quotes of one text, for a writer and an asker.
+
+    A state (at, ahead, live) tells of a quote that goes on: the number of the word behind some of its blocks, how many
+    words of the quote stand ahead, as far as that matters, and the ascending tuple of the live places, None for any.
+    """
 
     def __init__(self, writer, asker, text):
-        graph = writer(text)
+        words = words_of(text)
         self.asker = asker
-        self.results = asker.entries(graph.words)
-        self.over = tokens_over(graph.tokens, len(graph.words))
+        self.many = len(words)
+        self.results = asker.entries(words)
+        self.spans = spans_of(writer.meetings, writer.entries(words), {})[0]
         self.known = {}
+        self.misses = {}
 
     def block_at(self, at, quote):
         """For the asker's block at a word of a quote the number of the word behind it, and its footings."""
-        # What lies further away changes neither the block nor the tokens that reach into it.
-        near = (max(quote[0], at - REACH), min(quote[1], at + 2 * REACH))
+        part = part_at(self.asker.meetings, self.results, at, quote[1] + 1)
+        return (at + part[0], footings_at(part, at, self.spans, quote))
+
+    def near_block(self, at, quote):
+        """The same, kept for all quotes that are alike as far as one sees from there."""
+        near = (max(quote[0], at - REACH), min(quote[1], at + SIGHT))
         key = (at, near)
         if key not in self.known:
-            results = self.results[at:near[1] + 1]
-            block = next_block(results, 0, 0, self.asker.rules, self.asker.keep)
-            self.known[key] = (at + block.last + 1, home_footings(block, at, self.over, near))
+            self.known[key] = self.block_at(at, near)
         return self.known[key]
 
     def rows(self, quote):
@@ -66,24 +49,64 @@ class Quotes:
             found.append(footings)
         return found
 
-    def is_found(self, at, live, quote):
-        """Whether a way of a quote is at home, or it asks nothing, if these places are live at a word of it."""
+    def is_found(self, quote):
+        """Whether a way of a quote is at home, or it asks nothing."""
+        at = quote[0]
+        live = None
         while at <= quote[1] and (live is None or len(live) > 0):
             at, footings = self.block_at(at, quote)
             live = onward(live, footings)
         return live is None or len(live) > 0
 
+    def is_missed_behind(self, at, live, quote):
+        """Whether a quote is missed, if these places are live at a word of it."""
+        while at <= quote[1] and (live is None or len(live) > 0):
+            at, footings = self.near_block(at, quote)
+            live = onward(live, footings)
+        return live is not None and len(live) == 0
+
+    def step(self, state):
+        """The numbers of the last words of missed quotes that go on behind a state and have its next block.
+
+        Also the state behind this block, None if all quotes that go on there are missed, too; they are told then.
+        """
+        at, ahead, live = state
+        first = at - ahead
+        places = None if live is None else {place: True for place in live}
+        behind, footings = self.near_block(at, (first, at + SIGHT))
+        places = onward(places, footings)
+        if places is not None and len(places) == 0:
+            return (list(range(at + SIGHT, self.many)), None)
+        first = max(first, behind - REACH)
+        lasts = [
+            last for last in range(at + SIGHT, min(behind + SIGHT, self.many))
+            if self.is_missed_behind(behind, places, (first, last))]
+        return (lasts, (behind, behind - first, None if places is None else tuple(sorted(places))))
+
+    def missed_behind(self, state):
+        """The missed quotes of a state that see its next block: a pair of a list of last words and such a pair or None.
+
+        No list is empty. None if there are none.
+        """
+        path = []
+        while state is not None and state not in self.misses and state[0] + SIGHT < self.many:
+            lasts, behind = self.step(state)
+            path.append((state, lasts))
+            state = behind
+        told = self.misses.get(state, None)
+        for state_ahead, lasts in reversed(list(path)):
+            if len(lasts) > 0:
+                told = (lasts, told)
+            self.misses[state_ahead] = told
+        return told
+
     def missed_ends(self, first):
         """The list of the numbers of the last words of the missed quotes that begin with a word."""
-        ends = []
-        at = first
-        live = None
-        for last in range(first, len(self.results)):
-            quote = (first, last)
-            # Such a block, and what is live behind it, is the same in all longer quotes.
-            while at + 2 * REACH <= last and (live is None or len(live) > 0):
-                at, footings = self.block_at(at, quote)
-                live = onward(live, footings)
-            if not self.is_found(at, live, quote):
-                ends.append(last)
+        ends = [
+            last for last in range(first, min(first + SIGHT, self.many))
+            if self.is_missed_behind(first, None, (first, last))]
+        told = self.missed_behind((first, 0, None))
+        while told is not None:
+            lasts, told = told
+            ends.extend(lasts)
         return ends

@@ -1,6 +1,7 @@
 """Rewordings: other texts of a quote that have the same hits in each book."""
 
-from quotehome.blocks import next_block
+from quotehome.blocks import blocks_of
+from quotehome.parts import part_at
 from quotehome.rules import MOST_SIDE_WORDS
 from quotehome.words import text_of, words_of
 
@@ -36,11 +37,11 @@ def keeps_blocks(chain, blocks, number, results, more):
     at = max(0, number - MOST_SIDE_WORDS + 1)
     first = blocks[at].first
     while at < len(blocks) and first < len(results):
-        block = next_block(results, first, 0, chain.rules, chain.keep)
-        if set(block.sides) != set(blocks[at].sides):
+        many, _, sides, _, _ = part_at(chain.meetings, results, first, len(results))
+        if set(sides) != set(blocks[at].sides):
             return False
         at += 1
-        first = block.last + 1
+        first = first + many
         if at > number and at < len(blocks) and first == blocks[at].first + more:
             return True
     return at == len(blocks) and first == len(results)
@@ -50,7 +51,7 @@ def rewordings(chain, quote):
     """Yields the rewordings of a quote, by its blocks, then by the rules and their sides, each once."""
     words = words_of(quote)
     results = chain.entries(words)
-    blocks = chain(quote).blocks
+    blocks = blocks_of(results, chain.meetings)
     seen = {}
     for number, block in enumerate(blocks):
         ahead, behind = block.first, block.last + 1

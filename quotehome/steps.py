@@ -156,13 +156,16 @@ class Stem(Step):
             raise InvalidStep("keep", None)
         self.endings = ascending(endings)
         self.keep = ascending(keep)
+        # The lengths of the endings, the greatest one first.
+        self.sizes = tuple(reversed(sorted({len(ending) for ending in endings})))
 
     def result(self, value):
         if value is None or value in self.keep:
             return value
-        most = len(value) - Stem.LEAST
-        sizes = [len(ending) for ending in self.endings if len(ending) <= most and value.endswith(ending)]
-        return value[:len(value) - max(sizes, default=0)]
+        for size in self.sizes:
+            if len(value) - size >= Stem.LEAST and value[-size:] in self.endings:
+                return value[:-size]
+        return value
 
     def __eq__(self, other):
         return isinstance(other, Stem) and self.endings == other.endings and self.keep == other.keep

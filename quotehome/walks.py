@@ -4,11 +4,13 @@
 def footing(homes):
     """The length of a side and the list of the places at which it stands, None for anywhere.
 
-    For each of its entries homes has the dict of the places at which it may stand, or None for a hole.
+    For each of its entries homes has the places at which it may stand, a list or a dict, or None for a hole.
     """
     if homes[0] is None:
         # No side of a rule begins with a hole, so this one is nothing else.
         return (1, None)
+    if len(homes) == 1:
+        return (1, list(homes[0]))
     rest = [(index, homes[index]) for index in range(1, len(homes)) if homes[index] is not None]
     return (len(homes), [place for place in homes[0] if all([place + index in there for index, there in rest])])
 
@@ -47,15 +49,8 @@ def start_places(rows):
     live = None
     for footings in reversed(list(rows)):
         live = backward(live, footings)
+        if live is not None and len(live) == 0:
+            return []
         if is_worded(footings):
             starts = live
     return sorted(starts)
-
-
-def tokens_over(tokens, many):
-    """For each of so many words of a text the dict from a token's word to the tokens that come from this word."""
-    over = [{} for _ in range(many)]
-    for token in tokens:
-        for number in range(token[2], token[3] + 1):
-            over[number].setdefault(token[1], []).append(token)
-    return over

@@ -8,9 +8,9 @@ HOLE = "*"
 
 def is_letters(value, most):
     """Whether any value is a string of 1 to most letters from a to z."""
-    if not isinstance(value, str) or not 1 <= len(value) <= most:
+    if not isinstance(value, str) or len(value) > most:
         return False
-    return all(["a" <= letter <= "z" for letter in value])
+    return value.isascii() and value.isalpha() and value.islower()
 
 
 def is_word(value):
@@ -25,9 +25,12 @@ def words_of(text):
     if text == "":
         return ()
     parts = text.split(" ")
-    for index, part in enumerate(parts):
-        if not is_word(part):
-            raise InvalidText(index)
+    sizes = [len(part) for part in parts]
+    # Together they are looked at faster than one by one.
+    if min(sizes) == 0 or max(sizes) > MOST_LETTERS or not is_letters("".join(parts), len(text)):
+        for index, part in enumerate(parts):
+            if not is_word(part):
+                raise InvalidText(index)
     return tuple(parts)
 
 
