@@ -10,11 +10,14 @@ def beginnings(chain):
     return ascending(list(chain.begins))
 
 
-def begun_behind(chain, results, first):
-    """What is begun behind words with these results, if all blocks ahead of one of them are decided."""
-    while not is_waiting(chain.begins, results, first):
-        first = first + part_at(chain.meetings, results, first, len(results))[0]
-    return results[first:]
+def first_begun(chain, results, first, stop):
+    """The number of the first word of what is begun behind words with these results, ahead of stop.
+
+    All blocks ahead of the first one are decided.
+    """
+    while not is_waiting(chain.begins, results, first, stop):
+        first = first + part_at(chain.meetings, results, first, stop)[0]
+    return first
 
 
 def begun(chain, text, first):
@@ -22,4 +25,5 @@ def begun(chain, text, first):
     words = words_of(text)
     if not is_number(first, len(words) + 1):
         raise NoWord(first)
-    return begun_behind(chain, chain.entries(words[:first]), 0)
+    results = chain.entries(words[:first])
+    return results[first_begun(chain, results, 0, first):]

@@ -43,6 +43,11 @@ def check_sides(rules):
                 raise InvalidChain("side", number)
 
 
+def written_rules(chain):
+    """The rules of a chain as they are written."""
+    return chain.steps[-1].rules if len(chain.rules) > 0 else ()
+
+
 class Chain:
     """A row of steps. It never changes."""
 

@@ -13,18 +13,20 @@ class Edition:
     """
 
     def __init__(self, writer, asker):
-        self.writer = writer
-        self.asker = asker
+        self.writing = writer
+        self.asking = asker
         self.sided = side_words(writer, asker)
         self.is_plain = writer.turning.is_plain and asker.turning.is_plain
         self.of_kind = {}
         self.of_sort = {}
         self.known = {}
+        self.moves = {}
+        self.ends = {}
 
     def learn(self):
         """Looks for the words that stand for the kinds, and for the sorts of results by the writer, once."""
         if len(self.of_kind) == 0:
-            self.of_kind = first_of_kinds(self.writer, self.asker)
+            self.of_kind = first_of_kinds(self.writing, self.asking)
             for kind, word in self.of_kind.items():
                 self.of_sort.setdefault(kind[0], word)
 
@@ -35,7 +37,7 @@ class Edition:
         key = (word, is_asked)
         if key not in self.known:
             self.learn()
-            kind = kind_of(self.writer, self.asker, self.sided, word)
+            kind = kind_of(self.writing, self.asking, self.sided, word)
             self.known[key] = self.of_kind[kind] if is_asked else self.of_sort[kind[0]]
         return self.known[key]
 
@@ -56,7 +58,7 @@ class Edition:
         The words of decided blocks of the writer are told by their spans.
         """
         words, out, start, end = shape
-        asker = self.asker
+        asker = self.asking
         stop = len(words) if end == -1 else end
         results = asker.entries(words)
         rows = []
@@ -76,7 +78,7 @@ class Edition:
         text is over. The next shape is None if the quote has been read; its places are counted from the place.
         """
         words, out, start, end = shape
-        writer = self.writer
+        writer = self.writing
         spans, place = spans_of(writer.meetings, writer.entries(words), {} if is_over else writer.begins)
         at, rows = self.settled(shape, spans)
         if at == end:
@@ -86,6 +88,22 @@ class Edition:
             base, _, place, _, _ = spans[at]
         standing = self.standing(words[base:], out - base, (len(words) if end == -1 else end) - base)
         return ((standing, max(0, out - base), at - base, -1 if end == -1 else end - base), rows, place)
+
+    def reads(self, shape):
+        """The list of the pairs of a word and the move of rows of a shape behind it; words that are alike come once."""
+        if shape not in self.moves:
+            words, out, start, end = shape
+            self.learn()
+            more = list((self.of_kind if end == -1 else self.of_sort).values())
+            self.moves[shape] = [(word, self.move((words + (word,), out, start, end))) for word in more]
+        return self.moves[shape]
+
+    def ended(self, shape):
+        """The move of rows of a shape behind the quote's end, or at the text's end if the quote has ended."""
+        if shape not in self.ends:
+            words, out, start, end = shape
+            self.ends[shape] = self.move((words, out, start, len(words) if end == -1 else end), end != -1)
+        return self.ends[shape]
 
 
 def answer(move, live):

@@ -32,7 +32,7 @@ def found(writer, asker, text, first, last):
 def home_places(writer, asker, text, first, last):
     """The ascending list of the hit places of the ways of a quote that are at home."""
     check_quote(text, first, last)
-    return start_places(Quotes(writer, asker, text).rows((first, last)))
+    return start_places(Quotes(writer, asker, text).block_footings((first, last)))
 
 
 def missed(writer, asker, text):

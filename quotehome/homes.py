@@ -22,7 +22,7 @@ def spans_of(meetings, results, begins):
     while first < stop:
         entry = results[first]
         if entry in meetings:
-            if is_waiting(begins, results, first):
+            if is_waiting(begins, results, first, stop):
                 break
             many, width, sides, is_own, others = part_at(meetings, results, first, stop)
             own = sides[0] if is_own else ()

@@ -64,7 +64,7 @@ def part_at(meetings, results, first, stop):
     return NOTHING if entry is None else (1, 1, ((entry,),), True, ())
 
 
-def is_waiting(begins, results, first):
-    """Whether the words from one on may go on to become another part, if more of them follow."""
+def is_waiting(begins, results, first, stop):
+    """Whether the words from one on, ahead of another one, may go on to become another part if more words follow."""
     # A beginning has at most three entries.
-    return len(results) - first < 4 and results[first:] in begins
+    return stop - first < 4 and results[first:stop] in begins

@@ -20,16 +20,16 @@ class Quotes:
 
     def __init__(self, writer, asker, text):
         words = words_of(text)
-        self.asker = asker
+        self.asking = asker
         self.many = len(words)
         self.results = asker.entries(words)
         self.spans = spans_of(writer.meetings, writer.entries(words), {})[0]
         self.known = {}
-        self.misses = {}
+        self.told = {}
 
     def block_at(self, at, quote):
         """For the asker's block at a word of a quote the number of the word behind it, and its footings."""
-        part = part_at(self.asker.meetings, self.results, at, quote[1] + 1)
+        part = part_at(self.asking.meetings, self.results, at, quote[1] + 1)
         return (at + part[0], footings_at(part, at, self.spans, quote))
 
     def near_block(self, at, quote):
@@ -40,7 +40,7 @@ class Quotes:
             self.known[key] = self.block_at(at, near)
         return self.known[key]
 
-    def rows(self, quote):
+    def block_footings(self, quote):
         """The list of the footings of each block of a quote."""
         found = []
         at = quote[0]
@@ -89,15 +89,15 @@ class Quotes:
         No list is empty. None if there are none.
         """
         path = []
-        while state is not None and state not in self.misses and state[0] + SIGHT < self.many:
+        while state is not None and state not in self.told and state[0] + SIGHT < self.many:
             lasts, behind = self.step(state)
             path.append((state, lasts))
             state = behind
-        told = self.misses.get(state, None)
+        told = self.told.get(state, None)
         for state_ahead, lasts in reversed(list(path)):
             if len(lasts) > 0:
                 told = (lasts, told)
-            self.misses[state_ahead] = told
+            self.told[state_ahead] = told
         return told
 
     def missed_ends(self, first):

@@ -1,6 +1,7 @@
 """Rewordings: other texts of a quote that have the same hits in each book."""
 
 from quotehome.blocks import blocks_of
+from quotehome.chains import written_rules
 from quotehome.parts import part_at
 from quotehome.rules import MOST_SIDE_WORDS
 from quotehome.words import text_of, words_of
@@ -13,11 +14,6 @@ def other_sides(chain, met):
         if met in entries:
             others = others + [pair for pair in first_written(chain, written) if pair[0] != met]
     return others
-
-
-def written_rules(chain):
-    """The rules of a chain as they are written."""
-    return chain.steps[-1].rules if len(chain.rules) > 0 else ()
 
 
 def first_written(chain, rule):
