@@ -31,15 +31,24 @@ def blocks_of(results, meetings):
     place = 0
     stop = len(results)
     while first < stop:
-        many, width, sides, is_own, _ = part_at(meetings, results, first, stop)
-        blocks.append(Block(first, first + many - 1, place, width, sides, is_own))
-        first = first + many
-        place = place + width
+        entry = results[first]
+        if entry in meetings or entry is None:
+            many, width, sides, is_own, _ = part_at(meetings, results, first, stop)
+            blocks.append(Block(first, first + many - 1, place, width, sides, is_own))
+            first = first + many
+            place = place + width
+        else:
+            blocks.append(Block(first, first, place, 1, ((entry,),), True))
+            first = first + 1
+            place = place + 1
     return tuple(blocks)
 
 
 def tokens_of(block):
     """The ascending list of the tokens of a block."""
+    if block.width == 1 and len(block.sides) == 1:
+        entry = block.sides[0][0]
+        return [(block.place, entry, block.first, block.last)] if entry != HOLE else []
     own = block.sides[0] if block.is_own else ()
     tokens = [
         (block.place + index, entry, block.first + index, block.first + index)

@@ -43,7 +43,7 @@ class Edition:
 
     def words_for(self, begun):
         """The tuple of the words that stand for those with these results by the writer."""
-        if self.is_plain:
+        if self.is_plain or len(begun) == 0:
             return begun
         self.learn()
         return tuple([self.of_sort[entry] for entry in begun])

@@ -15,20 +15,17 @@ def spots_behind(blocks):
     behind = []
     ends = []
     for block in blocks:
-        starts = []
-        last_ends = ends
         if len(block.sides) > 0:
+            starts = []
+            last_ends = ends
             ends = []
-        for side in block.sides:
-            starts.append(len(behind))
-            for _ in side:
-                behind.append([len(behind) + 1])
-            ends.append(len(behind) - 1)
-        if len(starts) > 0:
+            for side in block.sides:
+                starts.append(len(behind))
+                behind.extend([[len(behind) + index] for index in range(1, len(side))])
+                ends.append(len(behind))
+                behind.append([])
             for end in last_ends:
                 behind[end] = starts
-    for end in ends:
-        behind[end] = []
     return behind
 
 
@@ -46,23 +43,30 @@ def word_spots(blocks):
     return spots
 
 
+def spots_of(sides, start):
+    """The dict from each entry of sides to the list of its spots, from a spot on; they are counted from the first."""
+    entries = [entry for side in sides for entry in side]
+    spots = {}
+    for spot in range(start, len(entries)):
+        spots.setdefault(entries[spot], []).append(spot)
+    return spots
+
+
 def spot_spans(blocks):
     """For each word of blocks a span, in which spots are in the place of places."""
     spans = []
     spot = 0
     for block in blocks:
         own = block.sides[0] if block.is_own else ()
-        entries = [entry for side in block.sides for entry in side]
-        others = {}
-        for index in range(len(own), len(entries)):
-            others.setdefault(entries[index], []).append(index)
+        many = sum([len(side) for side in block.sides])
+        others = spots_of(block.sides, len(own)) if many > len(own) else ()
         spans.extend([(block.first, block.last, spot, own, others)] * (block.last - block.first + 1))
-        spot = spot + len(entries)
+        spot = spot + many
     return spans
 
 
 def walked(live, homes, behind):
-    """The dict of the spots to which a side leads from live ones, from any spot if live is None."""
+    """The spots to which a side leads from live ones, a list or a dict; from any spot if live is None."""
     for home in homes:
         if live is None:
             live = home
@@ -79,9 +83,11 @@ def is_somewhere(rows, behind):
     live = None
     # Holes ahead of the first word and behind the last one may lie outside of the other graph.
     for sides in rows[worded[0]:worded[-1] + 1]:
-        if len(sides) > 0:
+        if len(sides) == 1:
+            live = walked(live, sides[0], behind)
+        elif len(sides) > 1:
             live = {spot: True for homes in sides for spot in walked(live, homes, behind)}
-        if live is not None and len(live) == 0:
+        if len(live) == 0:
             return False
     return True
 

@@ -79,7 +79,7 @@ def footings_at(part, at, spans, quote):
     """The footings of the sides of an asker's part at a word."""
     many, width, sides, _, _ = part
     if many == 1 and width == 1 and len(sides) == 1:
-        # Most words are such ones.
+        # Most words are such ones; this is what the line below tells of them.
         entry = sides[0][0]
         return [(1, None if entry == HOLE else home_at(entry, at, spans, quote))]
     return [footing(homes) for homes in homes_at(part, at, spans, quote)]

@@ -32,12 +32,14 @@ class Quotes:
         part = part_at(self.asking.meetings, self.results, at, quote[1] + 1)
         return (at + part[0], footings_at(part, at, self.spans, quote))
 
-    def near_block(self, at, quote):
-        """The same, kept for all quotes that are alike as far as one sees from there."""
-        near = (max(quote[0], at - REACH), min(quote[1], at + SIGHT))
-        key = (at, near)
+    def kept_block(self, at, quote):
+        """The same, kept for all quotes that are alike for this block."""
+        part = part_at(self.asking.meetings, self.results, at, quote[1] + 1)
+        behind = at + part[0]
+        # Blocks of the writer between these two lie in the quote whatever it is.
+        key = (at, behind, quote[0] <= self.spans[at][0], self.spans[behind - 1][1] <= quote[1])
         if key not in self.known:
-            self.known[key] = self.block_at(at, near)
+            self.known[key] = (behind, footings_at(part, at, self.spans, quote))
         return self.known[key]
 
     def block_footings(self, quote):
@@ -61,7 +63,7 @@ class Quotes:
     def is_missed_behind(self, at, live, quote):
         """Whether a quote is missed, if these places are live at a word of it."""
         while at <= quote[1] and (live is None or len(live) > 0):
-            at, footings = self.near_block(at, quote)
+            at, footings = self.kept_block(at, quote)
             live = onward(live, footings)
         return live is not None and len(live) == 0
 
@@ -73,7 +75,7 @@ class Quotes:
         at, ahead, live = state
         first = at - ahead
         places = None if live is None else {place: True for place in live}
-        behind, footings = self.near_block(at, (first, at + SIGHT))
+        behind, footings = self.kept_block(at, (first, at + SIGHT))
         places = onward(places, footings)
         if places is not None and len(places) == 0:
             return (list(range(at + SIGHT, self.many)), None)

@@ -2,7 +2,7 @@
 
 
 def footing(homes):
-    """The length of a side and the list of the places at which it stands, None for anywhere.
+    """The length of a side and the places at which it stands, a list or a dict, None for anywhere.
 
     For each of its entries homes has the places at which it may stand, a list or a dict, or None for a hole.
     """
@@ -10,7 +10,7 @@ def footing(homes):
         # No side of a rule begins with a hole, so this one is nothing else.
         return (1, None)
     if len(homes) == 1:
-        return (1, list(homes[0]))
+        return (1, homes[0])
     rest = [(index, homes[index]) for index in range(1, len(homes)) if homes[index] is not None]
     return (len(homes), [place for place in homes[0] if all([place + index in there for index, there in rest])])
 
@@ -49,8 +49,8 @@ def start_places(rows):
     live = None
     for footings in reversed(list(rows)):
         live = backward(live, footings)
-        if live is not None and len(live) == 0:
-            return []
         if is_worded(footings):
             starts = live
+            if len(starts) == 0:
+                return []
     return sorted(starts)
