@@ -7,7 +7,10 @@ import unittest
 from quotehome import errors
 from quotehome.books import Book
 from quotehome.chains import Chain
+from quotehome.desk import Desk
+from quotehome.judging import judge
 from quotehome.rules import Same
+from quotehome.shelves import Shelf
 from quotehome.steps import Drop, Stem, Step, Stop, Swap
 
 FIELDS = {
@@ -44,6 +47,7 @@ def any_values():
         (), ("a",), ("a", "b"), ((),), [], ["a"], [None], {}, {"a": "b"}, {1: [2]}, {(1, "a"): None}, nested(20),
         Step(), Stop("a"), Drop("a"), Swap(a="b"), Stem("s"), Same("a = b"),
         Chain(), Chain(Stop("a")), Chain()("a b"), Chain()("a")[0], Book(Chain()),
+        judge(Chain(), Chain()), Shelf(Chain(), Chain()), Desk(),
         errors.QuoteError(), errors.InvalidWord("a"), errors.NoBlock(0),
     ]
 

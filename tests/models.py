@@ -74,6 +74,34 @@ def missed(writer, asker, text):
         if not found(writer, asker, text, first, last)]
 
 
+def begun(chain, words):
+    """What is begun behind words."""
+    behind = decided(chain, words)
+    return tuple(chain.result(word) for word in words[behind[-1].last + 1 if behind else 0:])
+
+
+def few_words(known, most, limit):
+    """All texts of one word, two and so on over these words, as long as those of a length are not too many."""
+    for many in range(1, most + 1):
+        if len(known) ** many <= limit:
+            for words in itertools.product(known, repeat=many):
+                yield many, " ".join(words)
+
+
+def least_misses(writer, asker, known, most, limit):
+    """The dict from beginnings to the fewest words of a text with a missed quote, and the most words that were tried.
+
+    Texts of more words than that were not looked at.
+    """
+    least, tried = {}, 0
+    for many, text in few_words(known, most, limit):
+        tried = many
+        words = text.split(" ")
+        for first, _ in missed(writer, asker, text):
+            least.setdefault(begun(writer, words[:first]), many)
+    return least, tried
+
+
 def lies(asked_ways, written_ways, fits):
     """Whether an asked way lies in a written one; fits tells whether an entry may be the other one."""
     for way in asked_ways:
@@ -126,6 +154,18 @@ def some_pair(dice, **more):
     if way < 0.6:
         return writer.bare(), writer
     return writer, some_chain(dice, **more)
+
+
+def many_entries(chain):
+    return sum(len(side) for rule in chain.rules for side in rule)
+
+
+def small_pair(dice, **more):
+    """A writer and an asker that can be judged."""
+    while True:
+        writer, asker = some_pair(dice, **more)
+        if many_entries(writer) + many_entries(asker) <= 24:
+            return writer, asker
 
 
 def some_text(dice, most, letters="abcdefg"):
