@@ -143,7 +143,8 @@ class GhostOfTest(Case):
 
     def test_some_chains(self):
         for chain in [
-                Chain(), X, Chain(Same("car = auto")), Chain(Same("a y b = c y d")), Chain(Same("a b c d = e f", "g h i = j")),
+                Chain(), X, Chain(Same("car = auto")), Chain(Same("a y b = c y d")), 
+                Chain(Same("a b c d = e f", "g h i = j")),
                 Chain(Drop("o"), Same("a = b")), Chain(Same("a b = c d", keep=False)),
                 Chain(Same("c d = a b", "e f = a b", keep=False)), Chain(Stop("o"), Same("a o b = c o d")),
                 Chain(Swap(c="a", d="b"), Same("a b = c d")), Chain(Stem("s"), Same("aas bbs = ccs d"))]:

@@ -1,4 +1,4 @@
-"""The names, files, arguments and methods that the document's interface lists, as far as they have landed."""
+"""The names, files, arguments and methods that the document's interface lists."""
 
 import importlib
 import inspect
@@ -21,6 +21,12 @@ FUNCTIONS = {
         "end_row": "(writer, asker, row)", "last_row": "(writer, asker, row)",
         "row_of": "(writer, asker, text, first, last=None)",
     },
+    "judging": {"judge": "(writer, asker)"},
+    "looks": {"shows_safe": "(writer, asker, begun, rows)", "shows_missed": "(writer, asker, begun, miss)"},
+    "ghosts": {"ghosts": "(graph)", "ghost_of": "(chain)"},
+    "mender": {"mend": "(writer, asker)"},
+    "starts": {"snap": "(writer, asker, text, first)"},
+    "reports": {"report": "(verdict)", "shelf_report": "(shelf)"},
 }
 CLASSES = {
     "errors": {
@@ -37,6 +43,9 @@ CLASSES = {
     "blocks": {"Block": None},
     "graphs": {"Graph": None},
     "books": {"Book": "(chain)"},
+    "verdicts": {"Verdict": None},
+    "shelves": {"Shelf": "(writer, asker)"},
+    "desk": {"Desk": "()"},
 }
 STEP_METHODS = {"result": "(self, value)", "__eq__": "(self, other)", "__str__": "(self)", "__repr__": "(self)"}
 METHODS = {
@@ -56,10 +65,22 @@ METHODS = {
         "hits": "(self, graph)", "marks": "(self, name, graph, place)", "__len__": "(self)", "__contains__": None,
         "__eq__": "(self, other)",
     },
+    "Verdict": {
+        "is_safe": "(self, begun)", "starts": "(self, text)", "__eq__": "(self, other)", "__bool__": "(self)",
+    },
+    "Shelf": {
+        "ask_by": "(self, asker)", "renew": "(self, writer, asker)", "add": "(self, name, text)",
+        "remove": "(self, name)", "__getitem__": "(self, name)", "written_by": "(self, name)",
+        "rewrite": "(self, *names)", "find": "(self, quote)", "trial": "(self)", "tried": "(self, deed)",
+        "twin": "(self)", "__len__": "(self)", "__contains__": None, "__eq__": "(self, other)",
+    },
+    "Desk": {"say": "(self, line)", "undo": "(self, count=1)"},
 }
+# Properties, in the class itself.
+PROPERTIES = {"Book": ["names"], "Shelf": ["writer", "asker", "names", "stale"]}
 VALUES = {
     "Stop": {"MOST": 20}, "Stem": {"LEAST": 2}, "Same": {"MOST": 8}, "Chain": {"MOST": 6, "HOLE": "*"},
-    "Book": {"MOST": 40},
+    "Book": {"MOST": 40}, "Shelf": {"MOST": 40},
 }
 
 
@@ -94,6 +115,11 @@ class InterfaceTest(unittest.TestCase):
                 self.assertIn(name, vars(owner))
                 if signature is not None:
                     self.assertEqual(told(vars(owner)[name]), signature, (owner, name))
+
+    def test_properties(self):
+        for _, owner, _ in listed(CLASSES):
+            for name in PROPERTIES.get(owner.__name__, []):
+                self.assertIsInstance(vars(owner)[name], property)
 
     def test_class_values(self):
         for _, owner, _ in listed(CLASSES):

@@ -33,7 +33,8 @@ PAIRS = [
     (read("stop o", "same a o b = c d e"), read("stop o", "same d = f")),
     # Words that are left away.
     (PLAIN, Chain(Drop("o"))), (Chain(Drop("o")), Chain(Drop("o"))), (Chain(Drop("o")), Chain(Stop("o"))),
-    (read("drop o", "same a = b"),) * 2, (read("drop o", "same a = b"), PLAIN), (Chain(Drop("o", "u")), Chain(Drop("o"))),
+    (read("drop o", "same a = b"),) * 2, (read("drop o", "same a = b"), PLAIN),
+    (Chain(Drop("o", "u")), Chain(Drop("o"))),
     # Endings, and words that are exchanged.
     (Chain(Stem("s")),) * 2, (Chain(Stem("s")), PLAIN), (read("stem s - as", "same ca = b c"),) * 2,
     (Chain(Swap(a="b")),) * 2, (Chain(Swap(a="b")), PLAIN), (read("swap a b b a", "same a b = c"),) * 2,

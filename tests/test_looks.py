@@ -20,7 +20,8 @@ PLAIN = Chain()
 ONE = Chain(Stop("o"), Same("a o b = c d e"))
 PAIRS = [
     (X, X), (PLAIN, X), (PLAIN, PLAIN), (X, PLAIN), (ONE, ONE), (ONE, ONE.bare()), (PLAIN, Chain(Stop("o"))),
-    (Chain(Same("a = b c", "b c = a")),) * 2, (Chain(Same("a a = b")),) * 2, (Chain(Swap(d="a"), Same("a b = c d")),) * 2,
+    (Chain(Same("a = b c", "b c = a")),) * 2, (Chain(Same("a a = b")),) * 2,
+    (Chain(Swap(d="a"), Same("a b = c d")),) * 2,
     (Chain(Stem("s"), Same("a b = c", "b = d e")),) * 2, (Chain(Drop("o"), Same("a = b")),) * 2,
 ]
 
