@@ -61,6 +61,8 @@ def home_at(entry, at, spans, quote):
     if entry in others and quote[0] <= begin and end <= quote[1]:
         return places + [base + index for index in others[entry]]
     return places
+
+
 def homes_at(part, at, spans, quote):
     """For each side of an asker's part at a word the list of the homes of its entries, None for a hole."""
     many, _, sides, is_own, _ = part
