@@ -74,6 +74,9 @@ def with_line(chain, parts):
     return Chain.read(line if text == "" else f"{text}\n{line}")
 
 
+# Each of these carries out a line, of which it gets the parts behind the command, and tells what the desk answers.
+
+
 def to_writer(desk, parts):
     writer, asker = desk.chains
     desk.chains = (with_line(writer, parts), asker)

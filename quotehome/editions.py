@@ -94,8 +94,10 @@ class Edition:
         if shape not in self.moves:
             words, out, start, end = shape
             self.learn()
-            more = list((self.of_kind if end == -1 else self.of_sort).values())
-            self.moves[shape] = [(word, self.move((words + (word,), out, start, end))) for word in more]
+            # Behind the quote the words of one sort are alike.
+            known = self.of_kind if end == -1 else self.of_sort
+            self.moves[shape] = [
+                (word, self.move((words + (word,), out, start, end))) for word in list(known.values())]
         return self.moves[shape]
 
     def ended(self, shape):

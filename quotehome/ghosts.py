@@ -43,7 +43,7 @@ def ghost_of(chain):
     """A text of the fewest words whose graph has a ghost, and the place and words of one; None if there is none."""
     # A ghost belongs to a block that meets a side, and the words of the side alone make this block.
     written = [side for rule in written_rules(chain) for side in rule]
-    for side in sorted(written, key=lambda side: len(side)):
+    for side in sorted(written, key=len):
         text = text_of(side)
         told = ghosts(chain(text))
         if len(told) > 0:

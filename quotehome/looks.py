@@ -35,6 +35,6 @@ def shows_missed(writer, asker, begun, miss):
     words = words_or_none(text)
     if words is None or not is_number(first, len(words)) or not is_number(last, len(words)):
         return False
-    if first != len(begun) or last < first or writer.entries(words[:first]) != begun:
+    if last < first or writer.entries(words[:first]) != begun:
         return False
     return not found(writer, asker, text, first, last)

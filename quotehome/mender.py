@@ -2,7 +2,7 @@
 
 from quotehome.chains import written_rules
 from quotehome.errors import InvalidChain, TooMany
-from quotehome.judging import check_size, first_miss
+from quotehome.judging import first_miss
 from quotehome.rules import rule_text
 
 MOST_OF_WRITER = 6
@@ -18,7 +18,6 @@ def check_rules(writer, asker):
         raise TooMany(MOST_OF_WRITER)
     if many + len(written_rules(asker)) > MOST_OF_BOTH:
         raise TooMany(MOST_OF_BOTH)
-    check_size(writer, asker)
 
 
 def with_written(chain, rules):

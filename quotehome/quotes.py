@@ -68,7 +68,7 @@ class Quotes:
         return live is not None and len(live) == 0
 
     def step(self, state):
-        """The numbers of the last words of missed quotes that go on behind a state and have its next block.
+        """The last words of missed quotes that go on behind a state and have its next block, as runs (first, behind).
 
         Also the state behind this block, None if all quotes that go on there are missed, too; they are told then.
         """
@@ -78,27 +78,27 @@ class Quotes:
         behind, footings = self.kept_block(at, (first, at + SIGHT))
         places = onward(places, footings)
         if places is not None and len(places) == 0:
-            return (list(range(at + SIGHT, self.many)), None)
+            return ([(at + SIGHT, self.many)], None)
         first = max(first, behind - REACH)
-        lasts = [
-            last for last in range(at + SIGHT, min(behind + SIGHT, self.many))
+        runs = [
+            (last, last + 1) for last in range(at + SIGHT, min(behind + SIGHT, self.many))
             if self.is_missed_behind(behind, places, (first, last))]
-        return (lasts, (behind, behind - first, None if places is None else tuple(sorted(places))))
+        return (runs, (behind, behind - first, None if places is None else tuple(sorted(places))))
 
     def missed_behind(self, state):
-        """The missed quotes of a state that see its next block: a pair of a list of last words and such a pair or None.
+        """The missed quotes of a state that see its next block: a pair of a list of runs and such a pair or None.
 
         No list is empty. None if there are none.
         """
         path = []
         while state is not None and state not in self.told and state[0] + SIGHT < self.many:
-            lasts, behind = self.step(state)
-            path.append((state, lasts))
+            runs, behind = self.step(state)
+            path.append((state, runs))
             state = behind
         told = self.told.get(state, None)
-        for state_ahead, lasts in reversed(list(path)):
-            if len(lasts) > 0:
-                told = (lasts, told)
+        for state_ahead, runs in reversed(list(path)):
+            if len(runs) > 0:
+                told = (runs, told)
             self.told[state_ahead] = told
         return told
 
@@ -109,6 +109,7 @@ class Quotes:
             if self.is_missed_behind(first, None, (first, last))]
         told = self.missed_behind((first, 0, None))
         while told is not None:
-            lasts, told = told
-            ends.extend(lasts)
+            runs, told = told
+            for start, behind in runs:
+                ends.extend(list(range(start, behind)))
         return ends

@@ -17,7 +17,7 @@ def is_told(lives, live):
 def fewest(lives):
     """The list of the live places of rows of one shape without those that others show."""
     kept = []
-    for live in sorted(lives, key=lambda live: len(live)):
+    for live in sorted(lives, key=len):
         if not is_told(kept, live):
             kept.append(live)
     return kept
@@ -75,18 +75,17 @@ class Search:
 
     def end_all(self):
         """Takes what the rows of this level come to without one more word; a miss that they come to, or None."""
-        for number in list(self.level):
+        index = 0
+        # A row whose quote has just ended is one of this level, too.
+        while index < len(self.level):
+            number = self.level[index]
             shape, live = self.rows[number]
-            if shape[3] == -1:
-                told = answer(self.edition.ended(shape), live)
-                if told is False:
-                    return self.miss(number, [])
-                if told is not True:
-                    self.take(told[0], told[1], number, None)
-        for number in self.level:
-            shape, live = self.rows[number]
-            if shape[3] != -1 and answer(self.edition.ended(shape), live) is False:
+            told = answer(self.edition.ended(shape), live)
+            if told is False:
                 return self.miss(number, [])
+            if told is not True:
+                self.take(told[0], told[1], number, None)
+            index += 1
         return None
 
     def read_all(self):

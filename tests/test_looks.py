@@ -141,6 +141,14 @@ class SafeTest(Case):
         self.safe(True, X, X, (), rows + (((), 0, 0, -1, (-2,)), ((), 0, 0, -1, (-1, 0, 1)), ((), 0, 0, -1, (0, 0))))
         self.safe(True, X, X, (), rows + (((), 0, 0, -1, (0, -1)), ((), 0, 0, -1, (-1, -1))))
 
+    def test_an_answer_that_is_missed(self):
+        # All rows are there that are come to; only answers are missed.
+        for writer, asker, start in [(X, X, ("a",)), (PLAIN, Chain(Swap(a="b")), ()), (Chain(Swap(a="b")), PLAIN, ())]:
+            rows = self.all_rows(writer, asker, start)
+            self.assertLess(len(rows), 200)
+            self.safe(False, writer, asker, start, rows)
+            self.safe(False, writer, asker, start, rows[::-1])
+
     def test_no_live_places(self):
         rows = judge(PLAIN, PLAIN).rows
         self.assertIn(((), 0, 0, -1, ()), rows)
@@ -221,11 +229,11 @@ class SafeTest(Case):
                 self.safe(is_table(writer, asker, verdict.safe[0], rows), writer, asker, verdict.safe[0], rows)
 
     def all_rows(self, writer, asker, start):
-        """All rows that are come to from a beginning that is safe."""
+        """All rows that are come to from a beginning."""
         found, left = {}, [first_row(writer, asker, start)]
         while left:
             row = left.pop()
-            if row is not True and row not in found:
+            if isinstance(row, tuple) and row not in found:
                 found[row] = True
                 left += [read_row(writer, asker, row, word) for word in kinds(writer, asker)]
                 left.append((end_row if row[3] == -1 else last_row)(writer, asker, row))
