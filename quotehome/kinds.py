@@ -56,8 +56,11 @@ def ended_words(chain, sided):
 
 def rarest_letter(words, start):
     """The first letter with which, behind some first letters, the fewest of the words go on."""
-    ahead = [word[len(start)] for word in words if word.startswith(start) and len(word) > len(start)]
-    return min([(ahead.count(letter), letter) for letter in LETTERS])[1]
+    counts = {letter: 0 for letter in LETTERS}
+    for word in words:
+        if word.startswith(start) and len(word) > len(start):
+            counts[word[len(start)]] += 1
+    return min([(many, letter) for letter, many in counts.items()])[1]
 
 
 def fresh_start(words):

@@ -7,7 +7,7 @@ from quotehome.words import is_number, words_of
 
 def check_begun(writer, begun):
     """Raises NoBeginning if any value is no beginning of a writer."""
-    if not isinstance(begun, tuple) or begun not in list(writer.begins):
+    if begun not in list(writer.begins):
         raise NoBeginning(begun)
 
 

@@ -90,9 +90,9 @@ class Search:
 
     def read_all(self):
         """Goes on to the rows of the next level, with one more word; a miss that they come to, or None."""
-        rows = self.level
+        level = list(self.level)
         self.level = []
-        for number in rows:
+        for number in level:
             shape, live = self.rows[number]
             for word, move in self.edition.reads(shape):
                 told = answer(move, live)

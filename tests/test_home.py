@@ -105,6 +105,13 @@ class MissedTest(HomeCase):
         self.missed([(0, 0), (1, 1), (1, 2)], first, first, "a b x")
         self.missed([], first, first, "x c")
 
+    def test_a_side_of_the_asker_with_a_word_of_its_block(self):
+        # The word b is asked for a and b, and is found where b stands.
+        first = Chain(Same("b = a b", keep=False))
+        self.home([2], PLAIN, first, "x a b c", 1, 2)
+        self.home([2], PLAIN, first, "x a b c", 1, 3)
+        self.missed([(0, 2), (0, 3)], PLAIN, first, "x a b c")
+
     def test_a_word_that_stands_twice_is_found_where_it_stands(self):
         # The word a is written as c; the word c itself stands elsewhere in the quote.
         first = Chain(Same("c = a", keep=False))

@@ -464,7 +464,8 @@ class TwinTest(Case):
         self.equal_both_ways(Shelf(PLAIN, X), Shelf(Chain(), Chain.read(str(X))))
         others = []
         for change in [
-                lambda shelf: shelf.add("one", "red bus"), lambda shelf: shelf.add("three", "bus"), lambda shelf: shelf.add("four", ""),
+                lambda shelf: shelf.add("one", "red bus"), lambda shelf: shelf.add("three", "bus"),
+                lambda shelf: shelf.add("four", ""),
                 lambda shelf: shelf.remove("two"), lambda shelf: shelf.rewrite("two"),
                 lambda shelf: shelf.renew(PLAIN, PLAIN),
                 lambda shelf: shelf.renew(FIRST, FIRST.with_rules("auto = car", "x = x", keep=False))]:
