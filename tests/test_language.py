@@ -184,6 +184,52 @@ class LanguageTest(unittest.TestCase):
                 if isinstance(node, ast.Attribute) and isinstance(node.ctx, ast.Store):
                     self.assertNotIn(node.attr, methods, (path, node.lineno))
 
+    def test_properties_are_not_assigned_without_a_setter(self):
+        properties, setters = set(), set()
+        for tree in trees().values():
+            for function in functions(tree):
+                for decorator in function.decorator_list:
+                    kind = ast.unparse(decorator)
+                    if kind == "property":
+                        properties.add(function.name)
+                    elif kind.endswith(".setter"):
+                        setters.add(function.name)
+        for path, tree in trees().items():
+            for node in ast.walk(tree):
+                if isinstance(node, ast.Attribute) and isinstance(node.ctx, ast.Store):
+                    self.assertNotIn(node.attr, properties, (path, node.lineno))
+                if isinstance(node, ast.Call) and isinstance(node.func, ast.Attribute):
+                    self.assertNotIn(node.func.attr, properties, (path, node.lineno))
+        self.assertEqual(setters, {"asker"})
+
+    def test_what_is_reversed(self):
+        for path, tree in trees().items():
+            for node in ast.walk(tree):
+                if isinstance(node, ast.Call) and ast.unparse(node.func) == "reversed":
+                    self.assertRegex(ast.unparse(node.args[0]), r"^(list|tuple|sorted|range)\(", (path, node.lineno))
+
+    def test_generators_are_called_at_once(self):
+        names = {
+            function.name for tree in trees().values() for function in functions(tree)
+            if any(isinstance(node, (ast.Yield, ast.YieldFrom)) for node in ast.walk(function))}
+        self.assertLessEqual({"missed", "find", "hits", "ways", "rewordings"}, names)
+        for path, tree in trees().items():
+            at_once = [node.iter for node in ast.walk(tree) if isinstance(node, (ast.For, ast.comprehension))]
+            at_once += [node.value for node in ast.walk(tree) if isinstance(node, ast.YieldFrom)]
+            for node in ast.walk(tree):
+                if isinstance(node, ast.Call):
+                    called = node.func.id if isinstance(node.func, ast.Name) else getattr(node.func, "attr", None)
+                    self.assertTrue(called not in names or node in at_once, (path, node.lineno))
+
+    def test_sets(self):
+        for path, tree in trees().items():
+            for node in ast.walk(tree):
+                if isinstance(node, (ast.For, ast.comprehension)):
+                    self.assertNotIsInstance(node.iter, (ast.Set, ast.SetComp), path)
+                if isinstance(node, ast.Call) and any(isinstance(part, ast.SetComp) for part in node.args):
+                    self.assertIn(ast.unparse(node.func), ("sorted", "len"), (path, node.lineno))
+                    self.assertEqual(node.keywords, [], (path, node.lineno))
+
     def test_barred_words_in_strings(self):
         for path, tree in trees().items():
             for node in ast.walk(tree):
