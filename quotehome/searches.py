@@ -111,6 +111,6 @@ def miss_of(edition, begun, safe):
     search = Search(edition, begun, safe)
     miss = search.run()
     if miss is None:
-        for shape, lives in search.seen.items():
+        for shape, lives in list(search.seen.items()):
             safe[shape] = fewest(safe.get(shape, []) + lives)
     return miss

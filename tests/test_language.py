@@ -17,6 +17,8 @@ BUILTIN_METHODS = set(
     "append clear copy count endswith extend find get index insert isalnum isalpha isdigit islower isspace isupper"
     " items join keys ljust lower lstrip partition pop remove replace reverse rfind rjust rpartition rsplit rstrip"
     " setdefault split splitlines startswith strip update upper values zfill bit_length add discard isascii".split())
+CHANGING = set("append clear extend insert pop remove reverse setdefault update sort add discard".split())
+HEAPING = {"heappush", "heappop", "heapify", "heapreplace", "heappushpop"}
 DOUBLE = set(
     "__init__ __eq__ __repr__ __str__ __len__ __enter__ __exit__ __call__ __iter__ __or__ __contains__ __getitem__"
     " __bool__ __class__ __name__".split())
@@ -62,6 +64,67 @@ def bound_at_top(tree):
         elif isinstance(node, ast.Assign):
             names += stored(node)
     return names
+
+
+def called_name(call):
+    return call.func.id if isinstance(call.func, ast.Name) else getattr(call.func, "attr", None)
+
+
+def sources(function, node, generators, seen=()):
+    """The texts of what a value may be, or may have been made with and still hold: names and fields."""
+    if isinstance(node, ast.Call):
+        name = called_name(node)
+        if name in ("list", "tuple", "sorted", "range", "len", "dict", "set"):
+            return set()
+        # What is made with a value may hold it.
+        parts = list(node.args) + [keyword.value for keyword in node.keywords]
+        if isinstance(node.func, ast.Attribute) and (name in ("items", "keys", "values") or name in generators):
+            parts.append(node.func.value)
+    elif isinstance(node, ast.IfExp):
+        parts = [node.body, node.orelse]
+    elif isinstance(node, ast.BoolOp):
+        parts = node.values
+    elif isinstance(node, ast.Starred):
+        parts = [node.value]
+    elif isinstance(node, (ast.Attribute, ast.Subscript)):
+        parts = [node.value]
+    elif isinstance(node, ast.Name) and node.id not in seen:
+        seen = seen + (node.id,)
+        parts = [
+            other.value for other in ast.walk(function) if isinstance(other, ast.Assign)
+            for target in other.targets if isinstance(target, ast.Name) and target.id == node.id]
+    else:
+        parts = []
+    found = {part for value in parts for part in sources(function, value, generators, seen)}
+    return found | {ast.unparse(node)} if isinstance(node, (ast.Name, ast.Attribute, ast.Subscript)) else found
+
+
+def changed(loop):
+    """The texts of what the rows of a loop change: their items, or by a method."""
+    found = set()
+    for node in [node for row in loop.body for node in ast.walk(row)]:
+        if isinstance(node, ast.Subscript) and not isinstance(node.ctx, ast.Load):
+            found.add(ast.unparse(node.value))
+        elif isinstance(node, ast.AugAssign):
+            found.add(ast.unparse(node.target))
+        elif isinstance(node, ast.Call) and isinstance(node.func, ast.Attribute) and node.func.attr in CHANGING:
+            found.add(ast.unparse(node.func.value))
+        elif isinstance(node, ast.Call) and called_name(node) in HEAPING:
+            found.add(ast.unparse(node.args[0]))
+    return found
+
+
+def walked_and_changed(tree, generators):
+    """The pairs of a line and a text: what a loop walks, holds or was made with, and changes."""
+    return [
+        (loop.lineno, text) for function in functions(tree) for loop in ast.walk(function) if isinstance(loop, ast.For)
+        for text in sorted(sources(function, loop.iter, generators) & changed(loop))]
+
+
+def generator_names():
+    return {
+        function.name for tree in trees().values() for function in functions(tree)
+        if any(isinstance(node, (ast.Yield, ast.YieldFrom)) for node in ast.walk(function))}
 
 
 def attributes(tree):
@@ -209,17 +272,34 @@ class LanguageTest(unittest.TestCase):
                     self.assertRegex(ast.unparse(node.args[0]), r"^(list|tuple|sorted|range)\(", (path, node.lineno))
 
     def test_generators_are_called_at_once(self):
-        names = {
-            function.name for tree in trees().values() for function in functions(tree)
-            if any(isinstance(node, (ast.Yield, ast.YieldFrom)) for node in ast.walk(function))}
+        names = generator_names()
         self.assertLessEqual({"missed", "find", "hits", "ways", "rewordings"}, names)
         for path, tree in trees().items():
             at_once = [node.iter for node in ast.walk(tree) if isinstance(node, (ast.For, ast.comprehension))]
             at_once += [node.value for node in ast.walk(tree) if isinstance(node, ast.YieldFrom)]
             for node in ast.walk(tree):
                 if isinstance(node, ast.Call):
-                    called = node.func.id if isinstance(node.func, ast.Name) else getattr(node.func, "attr", None)
-                    self.assertTrue(called not in names or node in at_once, (path, node.lineno))
+                    self.assertTrue(called_name(node) not in names or node in at_once, (path, node.lineno))
+
+    def test_what_a_loop_walks_is_not_changed_in_it(self):
+        generators = generator_names()
+        for path, tree in trees().items():
+            self.assertEqual(walked_and_changed(tree, generators), [], path)
+
+    def test_how_loops_are_looked_at(self):
+        wrong = [
+            ("rows", "rows.append(1)"), ("rows", "rows[0] = 1"), ("rows", "del rows[0]"), ("rows", "rows += [1]"),
+            ("enumerate(rows)", "rows.pop()"), ("self.rows", "self.rows.pop()"), ("rows.items()", "rows[1] = 1"),
+            ("rows if rows else more", "more.pop()"), ("rows or more", "more.pop()"), ("zip(more, rows)", "rows.pop()"),
+            ("rows.values()", "if rows:\n   rows.update(more)"), ("walk(rows)", "rows.pop()"),
+            ("same", "rows.append(1)"), ("box.rows.items()", "more[1] = 1"), ("box.rows", "more.pop()")]
+        right = [
+            ("list(rows)", "rows.append(1)"), ("list(box.rows.items())", "more[1] = 1"), ("rows", "other.append(1)"),
+            ("self.rows", "self.more.pop()"), ("range(len(rows))", "rows[0] = 1"), ("sorted(rows)", "del rows[0]")]
+        for pairs, are_wrong in [(wrong, True), (right, False)]:
+            for walked, row in pairs:
+                code = f"def f(rows, more):\n same = rows\n box = Box(1, more)\n for _ in {walked}:\n  {row}\n"
+                self.assertEqual(len(walked_and_changed(ast.parse(code), {"walk"})) > 0, are_wrong, (walked, row))
 
     def test_sets(self):
         for path, tree in trees().items():
